@@ -37,7 +37,7 @@ func TestReadBuildsStates(t *testing.T) {
 		}
 		for j, r := range w.rules {
 			got := states[i].Rules[j]
-			from, to, ok := got.Pattern.Finder()(r.text, 0)
+			from, to, ok := got.Pattern.Finder().Find(r.text, 0)
 			if got.Kind != r.kind || got.Opens != r.opens || got.Colour != r.colour || !ok || from != 0 || to != len(r.text) {
 				t.Errorf("P4: rule %d of state %d is %d, %d, %q, and matches %q from %d to %d", j, i, got.Kind, got.Opens, got.Colour, r.text, from, to)
 			}
@@ -50,7 +50,7 @@ func TestReadPatternIsAllBehindTheSign(t *testing.T) {
 	if e != api.OK {
 		t.Fatalf("P4: Read = %d", e)
 	}
-	find := states[0].Rules[0].Pattern.Finder()
+	find := states[0].Rules[0].Pattern.Finder().Find
 	if _, to, ok := find("a = b ", 0); !ok || to != 6 {
 		t.Errorf("P4: the pattern matches up to %d, %v", to, ok)
 	}

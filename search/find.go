@@ -1,45 +1,55 @@
 package search
 
-// Finder makes a function that looks for the pattern in a text, from a place of it on: the least place where it matches, and the end of the longest match from there. The function remembers what it has worked out, so it isn't for two goroutines at once; the pattern is.
-func (p Pattern) Finder() func(text string, from int) (int, int, bool) {
-	forth := newReader(p.list, p.whole)
-	back := newReader(mirrored(p.list), p.whole)
-	return func(text string, from int) (int, int, bool) {
-		start, ok := leastStart(back, text, from)
-		if !ok {
-			return 0, 0, false
-		}
-		return start, longestEnd(forth, text, start), true
-	}
+import "iter"
+
+// A Finder looks for a pattern in texts. It remembers what it has worked out, so it isn't for two goroutines at once; the pattern is.
+type Finder struct {
+	forth reader // of the pattern
+	back  reader // of the pattern in reverse
 }
 
-// leastStart reads the text backwards, with a reader of the pattern in reverse: so all ends are tried at once, and the time does not grow with the square of the text.
-func leastStart(back reader, text string, from int) (int, bool) {
+// Finder makes one that has nothing to remember yet.
+func (p Pattern) Finder() Finder {
+	return Finder{newReader(p.list, p.whole), newReader(mirrored(p.list), p.whole)}
+}
+
+// Find tells the least place of a text, not ahead of from, where the pattern matches, and the end of the longest match from there.
+func (f Finder) Find(text string, from int) (int, int, bool) {
 	start, ok := 0, false
-	left := back.start
-	for at := len(text); ; at-- {
-		if back.ends(left) {
-			start, ok = at, true
+	for at := range f.Starts(text, from) {
+		start, ok = at, true
+	}
+	if !ok {
+		return 0, 0, false
+	}
+	return start, f.End(text, start), true
+}
+
+// Starts goes through the places of a text where the pattern matches, the last one first, down to from. The text is read backwards: so all ends are tried at once, and the time does not grow with the square of the text.
+func (f Finder) Starts(text string, from int) iter.Seq[int] {
+	return func(yield func(at int) bool) {
+		left := f.back.start
+		for at := len(text); ; at-- {
+			if f.back.ends(left) && !yield(at) || at <= from {
+				return
+			}
+			left = f.back.give(left, text[at-1]) | f.back.start
 		}
-		if at <= from {
-			return start, ok
-		}
-		left = back.give(left, text[at-1]) | back.start
 	}
 }
 
-// longestEnd reads on from a place where the pattern matches until nothing is left of it.
-func longestEnd(forth reader, text string, start int) int {
+// End tells the end of the longest match from a place where the pattern matches: it reads on until nothing is left of the pattern.
+func (f Finder) End(text string, start int) int {
 	stop := start
-	left := forth.start
+	left := f.forth.start
 	for at := start; left != 0; at++ {
-		if forth.ends(left) {
+		if f.forth.ends(left) {
 			stop = at
 		}
 		if at == len(text) {
 			break
 		}
-		left = forth.give(left, text[at])
+		left = f.forth.give(left, text[at])
 	}
 	return stop
 }

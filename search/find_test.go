@@ -3,6 +3,7 @@ package search
 import (
 	"math/rand/v2"
 	"regexp"
+	"slices"
 	"strings"
 	"testing"
 
@@ -60,7 +61,7 @@ func TestFindAgainstLibrary(t *testing.T) {
 		}
 		want := regexp.MustCompile(w.theirs)
 		want.Longest()
-		find := p.Finder()
+		find := p.Finder().Find
 		for range 8 {
 			text := randomText(r, 14)
 			from := r.IntN(len(text) + 1)
@@ -122,7 +123,7 @@ func TestClasses(t *testing.T) {
 		{"[\\(-\\+]", func(b byte) bool { return b >= '(' && b <= '+' }},
 	} {
 		p, _ := Parse(c.source)
-		find := p.Finder()
+		find := p.Finder().Find
 		for i := range 256 {
 			if _, _, ok := find(string([]byte{byte(i)}), 0); ok != c.has(byte(i)) {
 				t.Errorf("P3: %q has byte %d: %v", c.source, i, ok)
@@ -134,12 +135,12 @@ func TestClasses(t *testing.T) {
 // A finder's memory is its own, and does not change what it answers.
 func TestFinderAnswersTheSameAgain(t *testing.T) {
 	p, _ := Parse("(a|b)*c+")
-	one, other := p.Finder(), p.Finder()
+	one, other := p.Finder().Find, p.Finder().Find
 	for range 3 {
 		for _, text := range []string{"abccb", "", "cab", "xxabc"} {
 			for from := range len(text) + 1 {
 				a, b, ok := one(text, from)
-				c, d, ok2 := p.Finder()(text, from)
+				c, d, ok2 := p.Finder().Find(text, from)
 				if a != c || b != d || ok != ok2 {
 					t.Errorf("P3: %q from %d: %d, %d, %v, anew %d, %d, %v", text, from, a, b, ok, c, d, ok2)
 				}
@@ -151,19 +152,46 @@ func TestFinderAnswersTheSameAgain(t *testing.T) {
 	}
 }
 
-// remember must ask once for each pair, for else the closures keep nothing.
-func TestRememberAsksOnce(t *testing.T) {
-	asked := 0
-	f := remember(func(n int, b byte) set {
-		asked++
-		return set(n)<<8 | set(b)
-	})
-	for range 3 {
-		if f(1, 2) != 0x102 || f(2, 1) != 0x201 || f(0, 0) != 0 {
-			t.Error("remember answers otherwise than it was told")
+// A place is among the starts if the library's pattern, held to that place, matches; the last comes first.
+func TestStartsAgainstLibrary(t *testing.T) {
+	r := rand.New(rand.NewPCG(5, 6))
+	for range 1500 {
+		w := randomTwin(r, 1+r.IntN(4))
+		p, e := Parse(w.ours)
+		if e != api.OK {
+			continue
+		}
+		want := regexp.MustCompile("^(?:" + w.theirs + ")")
+		text := randomText(r, 14)
+		from := r.IntN(len(text) + 1)
+		var places []int
+		for at := len(text); at >= from; at-- {
+			if want.MatchString(text[at:]) {
+				places = append(places, at)
+			}
+		}
+		starts := p.Finder().Starts(text, from)
+		if got := slices.Collect(starts); !slices.Equal(got, places) {
+			t.Fatalf("P3: %q in %q from %d starts at %v, want %v", w.ours, text, from, got, places)
+		}
+		if got := slices.Collect(starts); !slices.Equal(got, places) {
+			t.Fatalf("P3: %q in %q from %d starts at %v, gone through again, want %v", w.ours, text, from, got, places)
 		}
 	}
-	if asked != 3 {
-		t.Errorf("asked %d times for three derivatives", asked)
+}
+
+func TestStartsLeftEarly(t *testing.T) {
+	p, _ := Parse("a")
+	for most := 1; most <= 4; most++ {
+		var got []int
+		for at := range p.Finder().Starts("xaaaa", 0) {
+			got = append(got, at)
+			if len(got) == most {
+				break
+			}
+		}
+		if want := []int{4, 3, 2, 1}[:most]; !slices.Equal(got, want) {
+			t.Errorf("left after %d: %v", most, got)
+		}
 	}
 }

@@ -3,6 +3,8 @@ package search
 import (
 	"math/bits"
 	"slices"
+
+	"tint/memo"
 )
 
 // A set is some of the expressions that a reader has numbered, a bit each: a pattern has at most MaxPattern bytes, so 64 are enough (see derive).
@@ -26,9 +28,9 @@ func newReader(list []expression, whole int) reader {
 		}
 		return bit
 	}
-	after := remember(func(n int, b byte) set {
+	after := memo.Remember(func(g given) set {
 		var left set
-		for _, at := range s.derive(expressionOf(n), b) {
+		for _, at := range s.derive(expressionOf(g.number), g.b) {
 			left |= mark(at)
 		}
 		return left
@@ -56,29 +58,16 @@ func numbering() (number func(at int) int, expressionOf func(n int) int) {
 	return number, func(n int) int { return places[n] }
 }
 
+// given is an expression, by its number, and the byte that it is given.
 type given struct {
 	number int
 	b      byte
 }
 
-// remember asks work for each derivative once.
-func remember(work func(n int, b byte) set) func(n int, b byte) set {
-	known := map[given]set{}
-	return func(n int, b byte) set {
-		key := given{n, b}
-		left, ok := known[key]
-		if !ok {
-			left = work(n, b)
-			known[key] = left
-		}
-		return left
-	}
-}
-
-func giveEach(after func(n int, b byte) set, left set, b byte) set {
+func giveEach(after func(g given) set, left set, b byte) set {
 	var out set
 	for ; left != 0; left &= left - 1 {
-		out |= after(bits.TrailingZeros64(uint64(left)), b)
+		out |= after(given{bits.TrailingZeros64(uint64(left)), b})
 	}
 	return out
 }
