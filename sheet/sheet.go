@@ -16,6 +16,7 @@ type Sheet struct {
 	states []rules.State
 	text   string
 	lines  []line
+	work   int // how many lines have been gone through
 }
 
 type line struct {
@@ -25,8 +26,8 @@ type line struct {
 
 // New colours a text by the rules of a grammar.
 func New(states []rules.State, text string) *Sheet {
-	s := &Sheet{states: states, lines: []line{{stack: paint.Bottom()}}}
-	s.Replace(0, 0, text)
+	s := &Sheet{states: states, text: strings.Clone(text)} // the text itself is the caller's
+	s.lines = s.colour(s.text, paint.Bottom(), 1+strings.Count(text, "\n"), nil)
 	return s
 }
 
@@ -42,8 +43,14 @@ func (s *Sheet) Spans(i int) iter.Seq[api.Span] { return slices.Values(s.lines[i
 // Stack tells the names of the states that are open where a line begins.
 func (s *Sheet) Stack(i int) []string { return s.lines[i].stack.Names(s.states) }
 
+// Work tells how many lines have been gone through.
+func (s *Sheet) Work() int { return s.work }
+
 // Replace takes out the n bytes from a place on, and puts others in there.
 func (s *Sheet) Replace(at, n int, put string) {
+	if n == 0 && put == "" {
+		return // no line was touched, so none has to be gone through
+	}
 	ahead, out, rest := s.text[:at], s.text[at:at+n], s.text[at+n:]
 	first := strings.Count(ahead, "\n")
 	touched := 1 + strings.Count(put, "\n")
@@ -62,6 +69,7 @@ func (s *Sheet) colour(text string, stack paint.Stack, touched int, behind []lin
 		if i >= touched && behind[i-touched].stack == stack {
 			break
 		}
+		s.work++
 		l := line{stack: stack}
 		for span, after := range painter.Spans(body, stack) {
 			l.spans = append(l.spans, span)

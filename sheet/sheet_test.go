@@ -72,14 +72,29 @@ func TestReplaceGoesThroughWhatMattersOnly(t *testing.T) {
 		{"a\nb\nc\nd", 3, 0, "/*", []int{0, -1, -1, -1}}, {"a\nb\n\"c\nd\"\ne", 2, 0, "\"", []int{0, -1, -1, -1, -1}}, {"a\nb\n*/\nd\ne", 3, 0, "/*", []int{0, -1, -1, 3, 4}},
 		{"a\n/*\nc\n*/\ne", 2, 2, "x", []int{0, -1, -1, -1, 4}}, {"a\n/*\nc\n*/\ne", 2, 2, "\"", []int{0, -1, -1, -1, -1}}, {"a\n/*\nc\n*/\ne", 3, 4, "", []int{0, -1, -1}},
 		{"a\n/*\nc\n*/\ne", 4, 0, "\"", []int{0, -1, 2, 3, 4}}, {"a\n/*b\nc\n*/\ne", 5, 1, "", []int{0, -1, 3, 4}},
+		// Nothing is taken out and nothing put in.
+		{"a\nb\nc\nd", 0, 0, "", []int{0, 1, 2, 3}}, {"a\nb\nc\nd", 3, 0, "", []int{0, 1, 2, 3}}, {"a\nb\nc\nd", 7, 0, "", []int{0, 1, 2, 3}},
 	} {
 		s := open(t, c.text)
-		before := s.lines
+		before, work := s.lines, s.Work()
 		s.Replace(c.at, c.n, c.put)
 		if got := keptFrom(before, s.lines); !slices.Equal(got, c.want) {
 			t.Errorf("case %d: the lines were %v, want %v", i, got, c.want)
 		}
+		if got, want := s.Work()-work, countAnew(c.want); got != want {
+			t.Errorf("P8: case %d: Work has grown by %d, and %d lines are new", i, got, want)
+		}
 	}
+}
+
+func countAnew(kept []int) int {
+	n := 0
+	for _, from := range kept {
+		if from == -1 {
+			n++
+		}
+	}
+	return n
 }
 
 // A string that is handed in is not kept, whole or in part.

@@ -115,7 +115,12 @@ func (t *Text) Stack(i int) ([]string, api.Errno) {
 }
 
 // Work tells how many lines have been gone through (P8).
-func (t *Text) Work() int { return 0 }
+func (t *Text) Work() int {
+	if t.closed() {
+		return 0
+	}
+	return t.sheet.Work()
+}
 
 func (t *Text) closed() bool { return t == nil || t.sheet == nil }
 
